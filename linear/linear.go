@@ -18,7 +18,33 @@ func Read(text string, model string) ([]api.Op, int, api.Reason, api.Errno) {
 
 // Apply does one operation (P3).
 func Apply(model string, state string, op api.Op) (string, api.Value, api.Errno) {
-	return "", api.Value{}, api.OK
+	if !models.Known(model) {
+		return "", api.Value{}, api.ErrModel
+	}
+	if _, ok := models.Find(model, op.Name); !ok {
+		return "", api.Value{}, api.ErrOp
+	}
+	next, val, ok := applyTo(model, state, op)
+	if !ok {
+		return "", api.Value{}, api.ErrState
+	}
+	return next, val, api.OK
+}
+
+func applyTo(model string, state string, op api.Op) (string, api.Value, bool) {
+	switch model {
+	case "register":
+		return models.Apply(models.Register{}, state, op)
+	case "kv":
+		return models.Apply(models.Store{}, state, op)
+	case "queue":
+		return models.Apply(models.Queue{}, state, op)
+	case "set":
+		return models.Apply(models.Set{}, state, op)
+	case "lock":
+		return models.Apply(models.Lock{}, state, op)
+	}
+	return "", api.Value{}, false
 }
 
 // Run judges a history (P4).

@@ -1,4 +1,4 @@
-// Package models knows the kinds of shared things: which operations each has, and what these need and give.
+// Package models knows the kinds of shared things: which operations each has, what these need and give, and what they do.
 package models
 
 import "linear/api"
