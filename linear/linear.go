@@ -2,6 +2,8 @@
 package linear
 
 import (
+	"strconv"
+
 	"linear/api"
 	"linear/history"
 	"linear/models"
@@ -48,4 +50,13 @@ func applyTo(model string, state string, op api.Op) (string, api.Value, bool) {
 }
 
 // Run judges a history (P4).
-func Run(text string, model string, budget int) string { return "" }
+func Run(text string, model string, budget int) string {
+	ops, line, why, errno := Read(text, model)
+	switch {
+	case errno != api.OK:
+		return "NO-MODEL\n"
+	case why != api.None:
+		return "REJECTED-INPUT line=" + strconv.Itoa(line) + " reason=" + strconv.Itoa(int(why)) + "\n"
+	}
+	return judge(model, ops, min(budget, api.MaxBudget))
+}
