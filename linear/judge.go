@@ -6,33 +6,43 @@ import (
 
 	"linear/api"
 	"linear/models"
+	"linear/parts"
 	"linear/search"
 )
 
-// noKey stands for the part of a model that has no keys.
-const noKey = "-"
-
-// judge tells what a search of the whole history finds; for the models with keys nothing yet.
+// judge tells what a search of the history's parts finds.
 func judge(model string, ops []api.Op, budget int) string {
 	switch model {
 	case "register":
-		return verdict(search.Part(models.Register{}, ops, budget))
+		return judgeParts(models.Register{}, parts.Whole(ops), budget)
+	case "kv":
+		return judgeParts(models.Store{}, parts.ByKey(ops), budget)
 	case "queue":
-		return verdict(search.Part(models.Queue{}, ops, budget))
+		return judgeParts(models.Queue{}, parts.Whole(ops), budget)
+	case "set":
+		return judgeParts(models.Set{}, parts.ByKey(ops), budget)
 	case "lock":
-		return verdict(search.Part(models.Lock{}, ops, budget))
+		return judgeParts(models.Lock{}, parts.Whole(ops), budget)
 	}
 	return ""
 }
 
-func verdict(found search.Outcome) string {
-	switch found.Verdict {
-	case search.Linearizable:
-		return "OK order=" + ids(found.Order) + "\n"
-	case search.Illegal:
-		return "ILLEGAL part=" + noKey + " longest=" + ids(found.Order) + "\n"
+// judgeParts searches one part behind the other, each with what the ones before have left of the budget.
+// It ends at the first part that is illegal or unknown: of the keys the least is to be told, so none behind it changes the answer.
+func judgeParts[S comparable, M models.Model[S]](model M, list []parts.Part, budget int) string {
+	var linearizations [][]api.Op
+	for _, part := range list {
+		found := search.Part(model, part.Ops, budget)
+		switch found.Verdict {
+		case search.Unknown:
+			return "UNKNOWN\n"
+		case search.Illegal:
+			return "ILLEGAL part=" + part.Name + " longest=" + ids(found.Order) + "\n"
+		}
+		linearizations = append(linearizations, found.Order)
+		budget = found.Left
 	}
-	return "UNKNOWN\n"
+	return "OK order=" + ids(parts.Merge(linearizations)) + "\n"
 }
 
 func ids(ops []api.Op) string {

@@ -14,9 +14,6 @@ import (
 	"linear/linear"
 )
 
-// judged are the models whose histories Run judges.
-func judged() []string { return []string{"register", "queue", "lock"} }
-
 const (
 	write5 = `{"call":1,"by":7,"op":"write","arg":5}`
 	read   = `{"call":2,"by":8,"op":"read"}`
@@ -34,12 +31,14 @@ func expectRun(t *testing.T, text, model string, budget int, wants ...string) {
 	t.Errorf("Run(%.300q, %q, %d) = %.300q, want one of %.300q", text, model, budget, got, wants)
 }
 
-// P4: the document's examples of register.
+// P4: the document's examples.
 func TestRunExamples(t *testing.T) {
 	expectRun(t, "", "register", 100000, "OK order=")
 	expectRun(t, write5, "register", 100000, "OK order=", "OK order=1")
 	expectRun(t, lines(write5, read, saw5), "register", 100000, "OK order=1,2")
 	expectRun(t, lines(write5, read, saw5, `{"call":3,"by":8,"op":"read"}`, `{"ret":3,"val":0}`), "register", 100000, "ILLEGAL part=- longest=1,2")
+	expectRun(t, lines(`{"call":1,"by":1,"op":"get","key":"a"}`, `{"ret":1,"val":null}`), "kv", 100000, "OK order=1")
+	expectRun(t, lines(`{"call":1,"by":1,"op":"get","key":"a"}`, `{"ret":1,"val":3}`), "kv", 100000, `ILLEGAL part="a" longest=`)
 	expectRun(t, lines(`{"call":1,"by":1,"op":"read"}`, `{"call":2,"by":1,"op":"read"}`), "register", 100000, "REJECTED-INPUT line=2 reason=6")
 	expectRun(t, `{"ret":1,"val":5}`, "register", 100000, "REJECTED-INPUT line=1 reason=7")
 	expectRun(t, `{"call":1,"by":1,"op":"read","arg":5}`, "register", 100000, "REJECTED-INPUT line=1 reason=4")
@@ -49,7 +48,7 @@ func TestRunExamples(t *testing.T) {
 
 // P4: the part is the whole history even if it is empty; with or without a byte 10 at the end it is one text.
 func TestRunOfLittle(t *testing.T) {
-	for _, model := range judged() {
+	for _, model := range models() {
 		expectRun(t, "", model, 2, "OK order=")
 		expectRun(t, "", model, 1, "OK order=", "UNKNOWN")
 		expectRun(t, "\n", model, 2, "REJECTED-INPUT line=1 reason=2")
@@ -144,7 +143,7 @@ func TestRunOfEachModel(t *testing.T) {
 	}
 }
 
-// textOf tells a history by words: `call 1.2 write 5` is a call of client 1 with the id 2 (`call 2`: of client 2), `ret 2 null` its return.
+// textOf tells a history by words: `call 1.2 write 5` is a call of client 1 with the id 2 (`call 2`: of client 2), `call 3 put a 5` one with a key, `ret 2 null` a return.
 func textOf(words string) string {
 	var out []string
 	for line := range strings.SplitSeq(words, ", ") {
@@ -158,11 +157,16 @@ func textOf(words string) string {
 			id = by
 		}
 		event := map[string]string{"call": id, "by": by, "op": `"` + f[2] + `"`}
-		if len(f) > 3 {
-			event["arg"] = f[len(f)-1]
+		rest := f[3:]
+		if strings.Contains(" get put del add rem has ", " "+f[2]+" ") {
+			event["key"] = `"` + rest[0] + `"`
+			rest = rest[1:]
 		}
-		if len(f) > 4 {
-			event["exp"] = f[3]
+		if len(rest) > 0 {
+			event["arg"] = rest[len(rest)-1]
+		}
+		if len(rest) > 1 {
+			event["exp"] = rest[0]
 		}
 		out = append(out, object(event))
 	}
@@ -207,6 +211,57 @@ func walk(model string, ops []api.Op) found {
 	return all
 }
 
+// told is what the document asks Run to tell of a history: of the first part that is not linearizable its name, its operations, and how many of them can be done.
+type told struct {
+	found
+	part string
+	ops  []api.Op
+}
+
+// walkParts walks through one part behind the other.
+func walkParts(model string, ops []api.Op) told {
+	all := told{found: found{linearizable: true}}
+	for _, key := range keysOf(ops) {
+		part := withKey(ops, key)
+		one := walk(model, part)
+		all.configurations += one.configurations
+		if all.linearizable && !one.linearizable {
+			all.linearizable, all.longest, all.part, all.ops = false, one.longest, nameOf(model, key), part
+		}
+	}
+	if len(ops) == 0 && !hasKeys(model) {
+		all.configurations = 1
+	}
+	return all
+}
+
+func hasKeys(model string) bool { return model == "kv" || model == "set" }
+
+// keysOf tells the keys that occur, the least first; all operations of a model without keys have the empty one.
+func keysOf(ops []api.Op) []string {
+	var keys []string
+	for _, op := range ops {
+		keys = append(keys, op.Key)
+	}
+	slices.Sort(keys)
+	return slices.Compact(keys)
+}
+
+func withKey(ops []api.Op, key string) []api.Op {
+	return slices.DeleteFunc(slices.Clone(ops), func(op api.Op) bool { return op.Key != key })
+}
+
+func nameOf(model, key string) string {
+	if !hasKeys(model) {
+		return "-"
+	}
+	name := strings.NewReplacer(`"`, `\"`, `\`, `\\`).Replace(key)
+	for c := range rune(32) {
+		name = strings.ReplaceAll(name, string(c), fmt.Sprintf(`\u%04x`, c))
+	}
+	return `"` + name + `"`
+}
+
 func isAhead(a, b api.Op) bool { return a.Ret != 0 && a.Ret < b.Call }
 
 // fault tells what keeps a list of ids from being a partial linearization; nothing, if it is one.
@@ -241,28 +296,63 @@ func fault(model string, ops []api.Op, list string) (length int, why string) {
 	return length, why
 }
 
+// orderFault tells what keeps a list of ids from being the order of an OK; nothing, if it is one.
+func orderFault(model string, ops []api.Op, list string) string {
+	ofKey := map[string][]string{}
+	var stood []api.Op
+	for id := range strings.FieldsFuncSeq(list, func(c rune) bool { return c == ',' }) {
+		at := slices.IndexFunc(ops, func(op api.Op) bool { return strconv.FormatInt(op.ID, 10) == id })
+		if at < 0 {
+			return "no id: " + id
+		}
+		for _, op := range stood {
+			if isAhead(ops[at], op) {
+				return fmt.Sprintf("%s is not before %d", id, op.ID)
+			}
+		}
+		stood = append(stood, ops[at])
+		ofKey[ops[at].Key] = append(ofKey[ops[at].Key], id)
+	}
+	if strings.Count(list, ",") != max(0, len(stood)-1) {
+		return "no list"
+	}
+	for _, key := range keysOf(ops) {
+		if _, why := fault(model, withKey(ops, key), strings.Join(ofKey[key], ",")); why != "" {
+			return fmt.Sprintf("of %q: %s", key, why)
+		}
+	}
+	return ""
+}
+
+// expectOK holds the order of an OK against the document's words.
+func expectOK(t *testing.T, model, text, answer string) {
+	t.Helper()
+	ops, _, _, _ := linear.Read(text, model)
+	order, ok := strings.CutPrefix(answer, "OK order=")
+	if why := orderFault(model, ops, strings.TrimSuffix(order, "\n")); !ok || why != "" {
+		t.Errorf("Run(%q, %q) = %q, it is linearizable: %s", text, model, answer, why)
+	}
+}
+
 // expectJudged holds Run against the walk: P4 to P7.
-func expectJudged(t *testing.T, model, text string) found {
+func expectJudged(t *testing.T, model, text string) told {
 	t.Helper()
 	ops, _, why, _ := linear.Read(text, model)
 	if why != api.None {
 		t.Fatalf("%s: Read refuses %q: %d", model, text, why)
 	}
-	all := walk(model, ops)
+	all := walkParts(model, ops)
 	enough := 2 * (len(ops) + 1) * all.configurations
 	answer := linear.Run(text, model, enough)
 	switch line, end := strings.CutSuffix(answer, "\n"); {
 	case !end || strings.Contains(line, "\n"):
 		t.Errorf("Run(%q, %q) = %q is not one line", text, model, answer)
 	case all.linearizable:
-		order, ok := strings.CutPrefix(line, "OK order=")
-		if _, why := fault(model, ops, order); !ok || why != "" {
-			t.Errorf("Run(%q, %q) = %q, it is linearizable: %s", text, model, answer, why)
-		}
+		expectOK(t, model, text, answer)
 	default:
-		list, ok := strings.CutPrefix(line, "ILLEGAL part=- longest=")
-		if length, why := fault(model, ops, list); !ok || why != "not all" || length != all.longest {
-			t.Errorf("Run(%q, %q) = %q, the longest has %d: %s", text, model, answer, all.longest, why)
+		list, ok := strings.CutPrefix(line, "ILLEGAL part="+all.part+" longest=")
+		if length, why := fault(model, all.ops, list); !ok || why != "not all" || length != all.longest {
+			t.Errorf("Run(%q, %q) = %q, the longest of %s has %d: %s", text, model, answer, all.part, all.longest, why)
 		}
 	}
 	expectSameWithMore(t, model, text, enough, answer)
@@ -295,7 +385,10 @@ type chance struct {
 
 // history lets clients use a thing; each call happens at its call, at its return, or never, and some returns are not what it gave.
 func (c chance) history(events, clients, lies int) string {
-	what := thing{model: c.model}
+	things := map[string]*thing{}
+	for _, key := range c.keys() {
+		things[key] = &thing{model: c.model}
+	}
 	type open struct {
 		op   api.Op
 		done bool
@@ -310,7 +403,7 @@ func (c chance) history(events, clients, lies int) string {
 			event, op := c.call(ids[len(out)]-100, by)
 			o := open{op: op}
 			if c.IntN(2) == 0 {
-				o.op.Val, o.done = what.do(op), true
+				o.op.Val, o.done = things[op.Key].do(op), true
 			}
 			calls = append(calls, o)
 			out = append(out, event)
@@ -318,7 +411,7 @@ func (c chance) history(events, clients, lies int) string {
 		}
 		o := calls[at]
 		if !o.done {
-			o.op.Val = what.do(o.op)
+			o.op.Val = things[o.op.Key].do(o.op)
 		}
 		if c.IntN(100) < lies {
 			o.op.Val = c.lie(o.op)
@@ -327,6 +420,13 @@ func (c chance) history(events, clients, lies int) string {
 		calls = slices.Delete(calls, at, at+1)
 	}
 	return lines(out...)
+}
+
+func (c chance) keys() []string {
+	if !hasKeys(c.model) {
+		return []string{""}
+	}
+	return []string{"", "b", "é"}
 }
 
 func (c chance) call(id, by int) (string, api.Op) {
@@ -339,6 +439,10 @@ func (c chance) call(id, by int) (string, api.Op) {
 	o := operations[own[c.IntN(len(own))]]
 	op := api.Op{ID: int64(id), By: int64(by), Name: o.name, Arg: int64(c.IntN(3)), Exp: int64(c.IntN(3))}
 	event := map[string]string{"call": strconv.Itoa(id), "by": strconv.Itoa(by), "op": `"` + o.name + `"`}
+	if hasKeys(c.model) {
+		op.Key = c.keys()[c.IntN(len(c.keys()))]
+		event["key"] = `"` + op.Key + `"`
+	}
 	if strings.Contains(o.needs, "arg") {
 		event["arg"] = fmt.Sprint(op.Arg)
 	}
@@ -352,9 +456,9 @@ func (c chance) lie(op api.Op) api.Value {
 	switch {
 	case op.Val.Kind == api.Bool:
 		return truth(int64(c.IntN(2)))
-	case op.Name == "deq" && c.IntN(3) == 0:
+	case (op.Name == "deq" || op.Name == "get") && c.IntN(3) == 0:
 		return api.Value{}
-	case op.Name == "deq" || op.Name == "read":
+	case op.Name == "deq" || op.Name == "get" || op.Name == "read":
 		return number(int64(c.IntN(3)))
 	}
 	return op.Val
@@ -372,7 +476,7 @@ func valueText(v api.Value) string {
 
 // P4 to P7: many small histories, held against the walk.
 func TestRunOfManyHistories(t *testing.T) {
-	for m, model := range judged() {
+	for m, model := range models() {
 		t.Run(model, func(t *testing.T) {
 			t.Parallel()
 			c := chance{rand.New(rand.NewPCG(uint64(m), 7)), model}
@@ -393,16 +497,12 @@ func TestRunOfManyHistories(t *testing.T) {
 
 // P4, P5: what was really done one after the other is OK, however long the history is; and so is what comes of it by cutting it off.
 func TestRunOfLongHistories(t *testing.T) {
-	for m, model := range judged() {
+	for m, model := range models() {
 		c := chance{rand.New(rand.NewPCG(uint64(m), 8)), model}
 		for range 10 {
 			text := c.history(api.MaxEvents, 3, 0)
 			for text != "" {
-				ops, _, _, _ := linear.Read(text, model)
-				order, ok := strings.CutPrefix(linear.Run(text, model, api.MaxBudget), "OK order=")
-				if _, why := fault(model, ops, strings.TrimSuffix(order, "\n")); !ok || why != "" {
-					t.Errorf("%s: %q is linearizable, but %q: %s", model, text, order, why)
-				}
+				expectOK(t, model, text, linear.Run(text, model, api.MaxBudget))
 				text = text[:max(0, strings.LastIndex(text, "\n"))]
 			}
 		}
@@ -420,19 +520,10 @@ func crowd(writes int, then ...string) string {
 
 // P5: more operations than a word has bits, up to the last place there is.
 func TestRunOfManyPending(t *testing.T) {
-	order, ok := strings.CutPrefix(linear.Run(crowd(128), "register", api.MaxBudget), "OK order=")
-	ops, _, _, _ := linear.Read(crowd(128), "register")
-	if _, why := fault("register", ops, strings.TrimSuffix(order, "\n")); !ok || why != "" || len(ops) != 128 {
-		t.Errorf("128 pending writes: %q, %s", order, why)
-	}
+	expectOK(t, "register", crowd(128), linear.Run(crowd(128), "register", api.MaxBudget))
 	for saw := 1; saw < 124; saw++ {
 		text := crowd(124, `{"call":125,"by":125,"op":"read"}`, fmt.Sprintf(`{"ret":125,"val":%d}`, saw), `{"call":126,"by":125,"op":"read"}`, fmt.Sprintf(`{"ret":126,"val":%d}`, saw+1))
-		ops, _, _, _ := linear.Read(text, "register")
-		answer := linear.Run(text, "register", api.MaxBudget)
-		order, ok := strings.CutPrefix(answer, "OK order=")
-		if _, why := fault("register", ops, strings.TrimSuffix(order, "\n")); !ok || why != "" {
-			t.Errorf("124 pending writes, and reads of %d and the next: %q, %s", saw, answer, why)
-		}
+		expectOK(t, "register", text, linear.Run(text, "register", api.MaxBudget))
 	}
 }
 
